@@ -1,0 +1,1 @@
+"""Jumpfield: fields of cells, jumped over time."""
