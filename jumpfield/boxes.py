@@ -71,4 +71,4 @@ def mixed_quarters(grove, key, half, known):
         y = half * (place // 2)
         quarter_part = clipped(part[0] - x, part[1] - y, part[2] - x, part[3] - y, half)
         made.append(mixed(grove, inners[place], outers[place], quarter_part, known))
-    return grove.linked(made[0], made[1], made[2], made[3])
+    return grove.linked(tuple(made))

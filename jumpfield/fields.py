@@ -33,10 +33,12 @@ def widened(grove, square):
     parts = grove.parts[square]
     bare = grove.bares[level - 1]
     return grove.linked(
-        grove.linked(bare, bare, bare, parts[0]),
-        grove.linked(bare, bare, parts[1], bare),
-        grove.linked(bare, parts[2], bare, bare),
-        grove.linked(parts[3], bare, bare, bare),
+        (
+            grove.linked((bare, bare, bare, parts[0])),
+            grove.linked((bare, bare, parts[1], bare)),
+            grove.linked((bare, parts[2], bare, bare)),
+            grove.linked((parts[3], bare, bare, bare)),
+        )
     )
 
 
@@ -51,7 +53,7 @@ def trimmed(grove, square):
 
 def middle_of(grove, square):
     inner = [grove.parts[quarter] for quarter in grove.parts[square]]
-    return grove.linked(inner[0][3], inner[1][2], inner[2][1], inner[3][0])
+    return grove.linked((inner[0][3], inner[1][2], inner[2][1], inner[3][0]))
 
 
 def is_bare_around(grove, square):
@@ -67,6 +69,13 @@ def is_bare_around(grove, square):
 def widened_over(grove, field, box):
     wide = field
     while not lies_within(box, reach_of(grove, wide)):
+        wide = widened(grove, wide)
+    return wide
+
+
+def widened_to(grove, field, level):
+    wide = field
+    while grove.level_of(wide) < level:
         wide = widened(grove, wide)
     return wide
 
@@ -106,7 +115,7 @@ def replaced(grove, square, x, y, state):
     parts = list(grove.parts[square])
     place = x // half + 2 * (y // half)
     parts[place] = replaced(grove, parts[place], x % half, y % half, state)
-    return grove.linked(parts[0], parts[1], parts[2], parts[3])
+    return grove.linked(tuple(parts))
 
 
 def field_of(grove, cells):

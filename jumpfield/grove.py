@@ -43,12 +43,11 @@ class Grove:
         self.parts.append(parts)
         return number
 
-    # For the package's own use, where the four are known to be squares of one level below the highest.
-    def linked(self, a, b, c, d):
-        parts = (a, b, c, d)
+    # For the package's own use, where parts is known to be a tuple of four squares of one level below the highest.
+    def linked(self, parts):
         number = self.numbers.get(parts)
         if number is None:
-            return self.kept(parts, self.levels[a] + 1)
+            return self.kept(parts, self.levels[parts[0]] + 1)
         return number
 
     # A number that the grove has not told yet is refused too, rather than answered by chance.
@@ -67,14 +66,14 @@ class Grove:
         level = self.levels[a]
         if level == TOP_LEVEL or any([self.levels[square] != level for square in (b, c, d)]):
             raise NoLevel("four squares of one level from 0 to 47 are joined")
-        return self.linked(a, b, c, d)
+        return self.linked((a, b, c, d))
 
     def solid(self, level, state):
         if not is_whole(level) or not 0 <= level <= TOP_LEVEL:
             raise NoLevel("a level is a whole number from 0 to 48")
         square = self.leaf(state)
         for below in range(level):
-            square = self.linked(square, square, square, square)
+            square = self.linked((square, square, square, square))
         return square
 
     def level_of(self, square):

@@ -56,7 +56,7 @@ def seen_quarters(grove, four, right, down, known):
         row = down // half + place // 2
         inner = (rows[row][column], rows[row][column + 1], rows[row + 1][column], rows[row + 1][column + 1])
         made.append(seen_at(grove, inner, right % half, down % half, known))
-    return grove.linked(made[0], made[1], made[2], made[3])
+    return grove.linked(tuple(made))
 
 
 def rows_of_quarters(grove, four):

@@ -20,7 +20,6 @@ def rearranged(grove, square, order, known):
     made = known.get(square)
     if made is None:
         old = grove.parts[square]
-        new = [rearranged(grove, old[place], order, known) for place in order]
-        made = grove.linked(new[0], new[1], new[2], new[3])
+        made = grove.linked(tuple([rearranged(grove, old[place], order, known) for place in order]))
         known[square] = made
     return made
