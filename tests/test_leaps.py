@@ -188,6 +188,20 @@ class JumpTest(LeapsCase):
                 self.refused(TooFar, jump, still, field, n)
                 self.refused(TooFar, road, still, field, n)
 
+    def test_too_far_at_each_side_of_a_box(self):
+        still = Jumps(self.grove, read_rule(""))
+        for box, most in (
+            ((-10, 5, 3, 100), LIMIT - 105),
+            ((-10, -50, 3, 20), LIMIT - 50),
+            ((5, -10, 100, 3), LIMIT - 105),
+            ((-50, -10, 20, 3), LIMIT - 50),
+            ((-LIMIT + 9, 0, 2 * LIMIT - 16, 1), 7),
+            ((0, -LIMIT + 9, 1, 2 * LIMIT - 11), 2),
+        ):
+            field = filled(self.grove, self.bare, box, 1)
+            self.assertEqual(jump(still, field, most), field)
+            self.refused(TooFar, jump, still, field, most + 1)
+
     def test_too_far_whatever_the_field_would_become(self):
         dying = Jumps(self.grove, read_rule("* 0"))
         field = field_of(self.grove, [(0, LIMIT - 3, 1)])
