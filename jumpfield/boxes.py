@@ -35,24 +35,17 @@ def part_in(grove, field, box):
     reach = reach_of(grove, field)
     left = box[0] + reach
     top = box[1] + reach
-    return clipped(left, top, left + box[2], top + box[3], 2 * reach)
-
-
-# Parts without places are all told alike, so that what was reckoned for one is known for the others.
-def clipped(left, top, right, bottom, size):
-    part = (max(left, 0), max(top, 0), min(right, size), min(bottom, size))
-    if part[0] >= part[2] or part[1] >= part[3]:
-        return (0, 0, 0, 0)
-    return part
+    size = 2 * reach
+    return (max(left, 0), max(top, 0), min(left + box[2], size), min(top + box[3], size))
 
 
 # The square with what inner has within the part, and what outer has around it.
 def mixed(grove, inner, outer, part, known):
+    if part[0] >= part[2] or part[1] >= part[3]:
+        return outer
     size = 1 << grove.levels[inner]
     if inner == outer or part == (0, 0, size, size):
         return inner
-    if part == (0, 0, 0, 0):
-        return outer
     key = (inner, outer, part)
     square = known.get(key)
     if square is None:
@@ -65,10 +58,17 @@ def mixed_quarters(grove, key, half, known):
     inners = grove.parts[key[0]]
     outers = grove.parts[key[1]]
     part = key[2]
+    columns = split_stretch(part[0], part[2], half)
+    rows = split_stretch(part[1], part[3], half)
     made = []
     for place in range(4):
-        x = half * (place % 2)
-        y = half * (place // 2)
-        quarter_part = clipped(part[0] - x, part[1] - y, part[2] - x, part[3] - y, half)
+        column = columns[place % 2]
+        row = rows[place // 2]
+        quarter_part = (column[0], row[0], column[1], row[1])
         made.append(mixed(grove, inners[place], outers[place], quarter_part, known))
     return grove.linked(tuple(made))
+
+
+# What a stretch has in either half, each told from where that half begins; one without places ends before it begins.
+def split_stretch(start, stop, half):
+    return ((start, min(stop, half)), (max(start - half, 0), stop - half))

@@ -213,6 +213,12 @@ class CutOutTest(BoxesCase):
         ):
             self.check(states, box)
 
+    def test_over_each_side_of_a_full_square(self):
+        states = {(x, y): 2 for x in range(-4, 4) for y in range(-4, 4)}
+        for left, top in itertools.product((-9, -5, -4, -3), repeat=2):
+            for right, bottom in itertools.product((3, 4, 5, 9), repeat=2):
+                self.check(states, (left, top, right - left, bottom - top))
+
     def test_against_the_states(self):
         chance = chance_of("cut out")
         for count in range(150):

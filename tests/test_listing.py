@@ -24,9 +24,9 @@ class CellsOfTest(ListingCase):
         self.assertEqual(cells_of(self.grove, field_of(self.grove, [])), [])
 
     def test_the_order(self):
-        field = field_of(self.grove, [(1, 2, 3), (-9, 2, 1), (40, -7, 2), (0, 0, 7), (-1, 0, 6), (0, 2, 5), (-40, 9, 4)])
+        cells = [(1, 2, 3), (-9, 2, 1), (40, -7, 2), (0, 0, 7), (-1, 0, 6), (0, 2, 5), (-40, 9, 4)]
         self.assertEqual(
-            cells_of(self.grove, field),
+            cells_of(self.grove, field_of(self.grove, cells)),
             [(40, -7, 2), (-1, 0, 6), (0, 0, 7), (-9, 2, 1), (0, 2, 5), (1, 2, 3), (-40, 9, 4)],
         )
 
@@ -49,7 +49,8 @@ class CellsOfTest(ListingCase):
         self.assertEqual(cells_of(self.grove, field), cells)
         self.too_many(planted(self.grove, field, -1, -1, 1))
         self.too_many(planted(self.grove, field, LIMIT - 1, 9, 1))
-        self.assertEqual(cells_of(self.grove, planted(self.grove, field, 3, 3, 0)), [c for c in cells if c[:2] != (3, 3)])
+        fewer = planted(self.grove, field, 3, 3, 0)
+        self.assertEqual(cells_of(self.grove, fewer), [cell for cell in cells if cell[:2] != (3, 3)])
 
     def test_4096_far_apart(self):
         cells = [(number * 1000003 - LIMIT, LIMIT - 1 - number * 7919, 1 + number % 7) for number in range(4096)]

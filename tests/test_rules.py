@@ -239,9 +239,9 @@ class NoRuleTest(unittest.TestCase):
             self.refused(text)
 
     def test_the_mark_between_clauses(self):
-        for text in ("1 0;2 0", "1 0 ;2 0", "1 0 ; 2 0", "1 0;  2 0", "1 0;\t2 0", "1 0;\n2 0", "1 0, 2 0", "1 0;; 2 0"):
+        for text in ("1 0;2 0", "1 0 ;2 0", "1 0 ; 2 0", "1 0;  2 0", "1 0;\t2 0", "1 0;\n2 0", "1 0, 2 0"):
             self.refused(text)
-        for text in ("1 0;", "1 0; ", ";1 0", "; 1 0", "1 0 2 0", "1 02 0"):
+        for text in ("1 0;; 2 0", "1 0;", "1 0; ", ";1 0", "; 1 0", "1 0 2 0", "1 02 0"):
             self.refused(text)
 
     def test_blanks(self):

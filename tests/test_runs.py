@@ -27,7 +27,8 @@ class ReadRunsTest(unittest.TestCase):
         self.assertEqual(read_runs(SIGNS), [(1, sign) for sign in SIGNS])
 
     def test_as_they_stand(self):
-        self.assertEqual(read_runs("AA3A2.2.//"), [(1, "A"), (1, "A"), (3, "A"), (2, "."), (2, "."), (1, "/"), (1, "/")])
+        self.assertEqual(read_runs("AA3A"), [(1, "A"), (1, "A"), (3, "A")])
+        self.assertEqual(read_runs("2.2.//"), [(2, "."), (2, "."), (1, "/"), (1, "/")])
         self.assertIs(read_runs("A")[0].__class__, tuple)
 
     def test_amounts(self):

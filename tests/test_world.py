@@ -268,8 +268,9 @@ class RefusalsTest(WorldCase):
             self.refused(NoRow, thing)
 
     def test_no_first_word(self):
-        for row in ("", " ", "  ", "a", "hello", "Show a", "SHOW a", "shows a", "show\ta", "show\na", " show a", "ok", "rules "):
+        for row in ("", " ", "  ", "a", "hello", "Show a", "SHOW a", "shows a", "show\ta", "show\na", " show a", "ok"):
             self.refused(NoRow, row)
+        self.refused(NoRow, "rules ")
 
     def test_a_word_too_few_and_too_many(self):
         for row in ROWS.values():
